@@ -1,0 +1,1 @@
+"""Sawtrunk: trunks sawn into boards."""

@@ -1,0 +1,72 @@
+"""Blocks (box, up): what is left of a trunk, the cuts that take layers of it, and their edging."""
+
+from sawtrunk.errors import TooThick
+from sawtrunk.shapes import stretch, tight, whole_box, wood_in
+
+_NEXT_UP = {"above": "right", "right": "below", "below": "left", "left": "above"}
+
+
+def whole_block(shape):
+    """The block of a trunk that isn't sawn yet."""
+    return (whole_box(shape), "above")
+
+
+def turned(block):
+    """The block with its next side up."""
+    box, up = block
+    return (box, _NEXT_UP[up])
+
+
+def cut(shape, saw, block, thick):
+    """A cut: the layer's box, how many cells are dust, and the block left or None."""
+    box, up = block
+    deep = box[3] if _cut_by_rows(up) else box[2]
+    if thick > deep:
+        raise TooThick(deep)
+    layer, behind = _parted(box, up, thick)
+    sawn, left = _parted(behind, up, min(saw, deep - thick))
+    rest = tight(shape, left)
+    return (layer, wood_in(shape, sawn), None if rest is None else (rest, up))
+
+
+def edged(shape, layer, up, edge, narrow):
+    """A layer's edging: the board's box or None, and how many cells are slab and dust."""
+    way = "x" if _cut_by_rows(up) else "y"
+    wood = wood_in(shape, layer)
+    common = stretch(shape, layer, way)
+    if common is None or common[1] - common[0] < narrow:
+        return (None, wood, 0)
+    lo, hi = common
+    board = _between(layer, way, lo, hi)
+    in_board = wood_in(shape, board)
+    dust = wood_in(shape, _between(layer, way, lo - edge, hi + edge)) - in_board
+    return (board, wood - in_board - dust, dust)
+
+
+def _cut_by_rows(up):
+    return up in ("above", "below")
+
+
+def _parted(box, up, many):
+    """So many lines of the box at its up side, and the lines behind them.
+
+    Either part may be empty, so wide or high 0: there is no wood in such a part.
+    """
+    left, top, wide, high = box
+    if up == "above":
+        return ((left, top, wide, many), (left, top + many, wide, high - many))
+    if up == "below":
+        return ((left, top + high - many, wide, many), (left, top, wide, high - many))
+    if up == "left":
+        return ((left, top, many, high), (left + many, top, wide - many, high))
+    return ((left + wide - many, top, many, high), (left, top, wide - many, high))
+
+
+def _between(box, way, lo, hi):
+    """What of each line of the box lies from lo on up to hi."""
+    left, top, wide, high = box
+    if way == "x":
+        first = max(left, lo)
+        return (first, top, min(left + wide, hi) - first, high)
+    first = max(top, lo)
+    return (left, first, wide, min(top + high, hi) - first)
