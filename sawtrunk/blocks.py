@@ -20,7 +20,7 @@ def turned(block):
 def cut(shape, saw, block, thick):
     """A cut: the layer's box, how many cells are dust, and the block left or None."""
     box, up = block
-    deep = box[3] if _cut_by_rows(up) else box[2]
+    deep = box[3] if way_of(up) == "x" else box[2]
     if thick > deep:
         raise TooThick(deep)
     layer, behind = _parted(box, up, thick)
@@ -31,20 +31,27 @@ def cut(shape, saw, block, thick):
 
 def edged(shape, layer, up, edge, narrow):
     """A layer's edging: the board's box or None, and how many cells are slab and dust."""
-    way = "x" if _cut_by_rows(up) else "y"
     wood = wood_in(shape, layer)
+    board, reached = edging(shape, layer, up, edge, narrow)
+    if board is None:
+        return (None, wood, 0)
+    near = wood_in(shape, reached)
+    return (board, wood - near, near - wood_in(shape, board))
+
+
+def edging(shape, layer, up, edge, narrow):
+    """The board's box, and the one around it and the edger's dust; None and None without a board."""
+    way = way_of(up)
     common = stretch(shape, layer, way)
     if common is None or common[1] - common[0] < narrow:
-        return (None, wood, 0)
+        return (None, None)
     lo, hi = common
-    board = _between(layer, way, lo, hi)
-    in_board = wood_in(shape, board)
-    dust = wood_in(shape, _between(layer, way, lo - edge, hi + edge)) - in_board
-    return (board, wood - in_board - dust, dust)
+    return (_between(layer, way, lo, hi), _between(layer, way, lo - edge, hi + edge))
 
 
-def _cut_by_rows(up):
-    return up in ("above", "below")
+def way_of(up):
+    """The way along which the lines of a block lie that has this side up."""
+    return "x" if up in ("above", "below") else "y"
 
 
 def _parted(box, up, many):

@@ -1,7 +1,9 @@
-"""What the tests share: asking twice, and slow answers that go through every cell."""
+"""What the tests share: asking twice, refusals, and slow answers that go through every cell."""
 
 from copy import deepcopy
 from itertools import product
+
+from sawtrunk.errors import SawError
 
 
 def asked(case, function, *things):
@@ -65,3 +67,128 @@ def small_shapes(wide, high):
 
 def small_boxes(wide, high):
     return list(product(range(wide + 1), range(high + 1), range(1, wide + 2), range(1, high + 2)))
+
+
+SIDES = ("above", "right", "below", "left")
+
+
+class SlowSaw:
+    """A trunk sawn cell by cell: each cell across it has a sign, and each board its cells."""
+
+    def __init__(self, trunk, measures):
+        self.shape, self.long, self.flaws = trunk
+        self.saw, self.edge, self.narrow, self.short, _, self.rules = measures
+        self.left = cells_of(self.shape)
+        self.signs = {cell: "#" for cell in self.left}
+        self.side = 0
+        self.boards = []
+
+    def do(self, deed):
+        """None, or the refusal's name and field."""
+        if not self.left:
+            return ("NoBlock",)
+        if deed == ("turn",):
+            self.side = (self.side + 1) % 4
+            return None
+        depth = 1 if self.side in (0, 2) else 0
+        lines = sorted({cell[depth] for cell in self.left}, reverse=self.side in (1, 2))
+        thick = deed[1]
+        if thick > len(lines):
+            return ("TooThick", len(lines))
+        self.edge_layer(depth, lines[:thick])
+        for cell in [cell for cell in self.left if cell[depth] in lines[thick:thick + self.saw]]:
+            self.signs[cell] = "-"
+        self.left = {cell for cell in self.left if cell[depth] not in lines[:thick + self.saw]}
+        return None
+
+    def edge_layer(self, depth, lines):
+        layer = {cell for cell in self.left if cell[depth] in lines}
+        across = 1 - depth
+        places = [{cell[across] for cell in layer if cell[depth] == line} for line in lines]
+        common = sorted(set.intersection(*places))
+        sign = "="
+        if common and len(common) >= self.narrow:
+            board = self.board(tight_of({cell for cell in layer if cell[across] in common}), depth)
+            if board is not None:
+                sign = chr(ord("a") + len(self.boards))
+                self.boards.append(board)
+        else:
+            common = []
+        for cell in layer:
+            away = min([abs(cell[across] - place) for place in common], default=self.edge + 1)
+            self.signs[cell] = sign if away == 0 else "-" if away <= self.edge else "="
+
+    def board(self, box, depth):
+        left, top, wide, high = box
+        body = (left, top, 0, wide, high, self.long)
+        grade = grade_by_cells(body, self.flaws, self.rules)
+        if self.long < self.short or grade is None:
+            return None
+        return (body, "x" if depth == 1 else "y", grade)
+
+    def told(self):
+        """What is told of the trunk: as by sawn."""
+        box = tight_of(self.left)
+        signs = list(self.signs.values())
+        block = None if box is None else (box, SIDES[self.side])
+        return (self.boards, block, signs.count("=") * self.long, signs.count("-") * self.long)
+
+    def rows(self):
+        """The picture."""
+        wide = max(hi for _, hi in self.shape)
+        return ["".join(self.signs.get((x, y), ".") for x in range(wide)) for y in range(len(self.shape))]
+
+
+def places_of(body):
+    """The places of a body along each of the three ways."""
+    return [set(range(body[k], body[k] + body[k + 3])) for k in range(3)]
+
+
+def meet_by_cells(one, other):
+    return all(mine & theirs for mine, theirs in zip(places_of(one), places_of(other)))
+
+
+def grade_by_cells(body, flaws, rules):
+    kinds = [kind for kind, where in flaws if meet_by_cells(body, where)]
+    kept = [grade for grade, barred, most in rules if not set(kinds) & set(barred) and len(kinds) <= most]
+    return kept[0] if kept else None
+
+
+def sawn_slowly(trunk, measures, deeds):
+    """The saw behind the deeds, and the first refusal or None."""
+    saw = SlowSaw(trunk, measures)
+    for deed in deeds:
+        refusal = saw.do(deed)
+        if refusal is not None:
+            return (saw, refusal)
+    return (saw, None)
+
+
+def hold_refused(case, refusal, function, *things):
+    """The call is refused with just this: a name and fields; what is handed in stays as it was."""
+    kept = repr(things)
+    for _ in range(2):
+        try:
+            function(*things)
+        except SawError as caught:
+            case.assertEqual((caught.__class__.__name__,) + tuple(vars(caught).values()), refusal, things)
+        else:
+            case.fail(f"not refused: {things}")
+        case.assertEqual(repr(things), kept)
+
+
+def hold_by_cells(case, function, trunk, measures, deeds):
+    """The answer and the slow saw behind the deeds; None where both refuse them alike."""
+    slow, refusal = sawn_slowly(trunk, measures, deeds)
+    if refusal is not None:
+        hold_refused(case, refusal, function, trunk, measures, deeds)
+        return None
+    return (asked(case, function, trunk, measures, deeds), slow)
+
+
+def all_deeds(thicks, many):
+    """Every row of at most so many deeds with cuts of these thicks."""
+    each = [("turn",)] + [("cut", thick) for thick in thicks]
+    for count in range(many + 1):
+        for deeds in product(each, repeat=count):
+            yield list(deeds)
