@@ -3,7 +3,8 @@
 from sawtrunk.errors import TooThick
 from sawtrunk.shapes import stretch, tight, whole_box, wood_in
 
-_NEXT_UP = {"above": "right", "right": "below", "below": "left", "left": "above"}
+# As they come up one behind the other where a block is turned.
+SIDES = ("above", "right", "below", "left")
 
 
 def whole_block(shape):
@@ -14,13 +15,19 @@ def whole_block(shape):
 def turned(block):
     """The block with its next side up."""
     box, up = block
-    return (box, _NEXT_UP[up])
+    return (box, SIDES[(SIDES.index(up) + 1) % len(SIDES)])
+
+
+def deep_of(block):
+    """How many lines the block has to be cut."""
+    box, up = block
+    return box[3] if way_of(up) == "x" else box[2]
 
 
 def cut(shape, saw, block, thick):
     """A cut: the layer's box, how many cells are dust, and the block left or None."""
     box, up = block
-    deep = box[3] if way_of(up) == "x" else box[2]
+    deep = deep_of(block)
     if thick > deep:
         raise TooThick(deep)
     layer, behind = _parted(box, up, thick)

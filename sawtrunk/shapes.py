@@ -1,9 +1,6 @@
 """Shapes, tuples of rows (lo, hi) of cells, and the boxes (left, top, wide, high) laid over them."""
 
-
-def is_whole(thing):
-    """Of anything: whether it is an int that is no truth."""
-    return isinstance(thing, int) and not isinstance(thing, bool)
+from sawtrunk.things import is_numbers
 
 
 def is_shape(thing):
@@ -16,10 +13,12 @@ def is_shape(thing):
 
 
 def _is_row(thing):
-    if not isinstance(thing, tuple) or len(thing) != 2:
-        return False
-    lo, hi = thing
-    return is_whole(lo) and is_whole(hi) and 0 <= lo < hi
+    return is_numbers(thing, (0, 1)) and thing[0] < thing[1]
+
+
+def is_box(thing):
+    """Of anything: whether it is a box."""
+    return is_numbers(thing, (0, 0, 1, 1))
 
 
 def _neighbours_meet(shape):

@@ -2,6 +2,7 @@
 
 from copy import deepcopy
 from itertools import product
+from time import perf_counter
 
 from sawtrunk.errors import SawError
 
@@ -192,3 +193,58 @@ def all_deeds(thicks, many):
     for count in range(many + 1):
         for deeds in product(each, repeat=count):
             yield list(deeds)
+
+
+def paid(board, prices):
+    """A board's worth, row by row."""
+    (_, _, _, wide, high, _), way, grade = board
+    broad, thick = (wide, high) if way == "x" else (high, wide)
+    return max([0] + [row[3] for row in prices if row[:2] == (grade, thick) and row[2] <= broad])
+
+
+def board(grade, thick, breadth, long, way="x"):
+    """A board of these measures, that doesn't begin at 0."""
+    wide, high = (breadth, thick) if way == "x" else (thick, breadth)
+    return ((4, 2, 1, wide, high, long), way, grade)
+
+
+def names(many, letter):
+    """So many names, rising."""
+    return [letter + chr(97 + k // 26) + chr(97 + k % 26) for k in range(many)]
+
+
+def nested(leaf, wrap, many=30):
+    """The leaf within so many things, each within another."""
+    for _ in range(many):
+        leaf = wrap(leaf)
+    return leaf
+
+
+def odd_things():
+    """Things of any kind, within one another too."""
+    leaves = [None, True, False, 0, 1, -1, 7, 10 ** 60, -(10 ** 60), "", "a", "cut", "A", "5", "x" * 300]
+    inner = [(), [], {}, (0,), [0], {"a": 0}, {0: None}, ("a",), ["a"], ((), ()), [[], []], ("a", "b"), (0, 0)]
+    wraps = [lambda x: (x,), lambda x: [x], lambda x: {"a": x}, lambda x: (x, x), lambda x: [(x, None)]]
+    deep = [nested(leaf, wrap) for leaf in (None, 3, "a", ()) for wrap in (wraps[0], wraps[1], wraps[2], wraps[4])]
+    return leaves + inner + [wrap(thing) for wrap in wraps for thing in leaves + inner] + deep
+
+
+def spoilt(thing):
+    """The tuple with each of its parts, however deep, exchanged for odd ones, left out, or told twice."""
+    if isinstance(thing, tuple):
+        for k, part in enumerate(thing):
+            yield thing[:k] + thing[k + 1:]
+            yield thing[:k] + (part, part) + thing[k + 1:]
+            for other in spoilt(part):
+                yield thing[:k] + (other,) + thing[k + 1:]
+        yield list(thing)
+        yield {part: None for part in thing}
+    yield from (None, True, "", [], {}, (), -1, "A1", nested(thing, lambda x: (x,), 3), str(thing))
+
+
+def hold_soon(case, function, *things):
+    """The answer, which must be there within a few seconds, on a slow machine too."""
+    begun = perf_counter()
+    told = function(*things)
+    case.assertLess(perf_counter() - begun, 10)
+    return told

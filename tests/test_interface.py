@@ -1,7 +1,9 @@
 import inspect
 import unittest
 
-from sawtrunk import blocks, grades, parting, pictures, prices, sawing, shapes
+from sawtrunk import (
+    best, blocks, fitlooks, fitting, grades, parting, pictures, prices, sawing, shapes, weighs,
+)
 
 LISTED = (
     (shapes, (
@@ -20,6 +22,12 @@ LISTED = (
         ("ripped", ["board", "breadth", "flaws", "measures"]), ("crossed", ["board", "long", "flaws", "measures"]),
     )),
     (prices, (("worth_of", ["board", "prices"]),)),
+    (best, (
+        ("best", ["trunk", "measures", "prices", "thicks"]), ("weighing", ["trunk", "measures", "prices", "thicks"]),
+    )),
+    (weighs, (("weighs", ["trunk", "measures", "prices", "thicks", "worth", "thing"]),)),
+    (fitting, (("fits", ["board", "order", "rules"]), ("most", ["orders", "boards", "rules"]))),
+    (fitlooks, (("most_holds", ["orders", "boards", "rules", "thing"]),)),
 )
 
 
