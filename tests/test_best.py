@@ -18,7 +18,9 @@ KNOT = ("knot", (1, 1, 1, 2, 1, 1))
 ROT = ("rot", (2, 0, 0, 1, 2, 1))
 SQUARE = ((0, 3),) * 3
 EIGHT = ((0, 8),) * 8
-PRICES = (("low", 1, 2, 5), ("low", 1, 3, 9), ("low", 2, 2, 11), ("low", 2, 3, 17), ("good", 1, 1, 4), ("fine", 1, 2, 8))
+PRICES = (
+    ("low", 1, 2, 5), ("low", 1, 3, 9), ("low", 2, 2, 11), ("low", 2, 3, 17), ("good", 1, 1, 4), ("fine", 1, 2, 8),
+)
 
 
 def most_of_all_rows(saw, prices, thicks):

@@ -125,8 +125,8 @@ class Most(MostCase):
             self.hold(orders, boards, RULES, most_by_tries(orders, boards, RULES))
 
     def test_names_in_another_order(self):
-        orders = {"b": order_of_breadth(2), "a": order_of_breadth(3), "d": order_of_breadth(2), "c": order_of_breadth(9)}
-        boards = {"x": board_of_breadth(3), "w": board_of_breadth(2), "v": board_of_breadth(4), "y": board_of_breadth(2)}
+        orders = {name: order_of_breadth(breadth) for name, breadth in (("b", 2), ("a", 3), ("d", 2), ("c", 9))}
+        boards = {name: board_of_breadth(breadth) for name, breadth in (("x", 3), ("w", 2), ("v", 4), ("y", 2))}
         first = self.hold(orders, boards, RULES, 3)
         for some in permutations(orders):
             for others in permutations(boards):

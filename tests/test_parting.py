@@ -4,7 +4,7 @@ from itertools import product
 from sawtrunk.parting import breadth_of, crossed, long_of, ripped, thick_of
 from sawtrunk.sawing import sawn
 
-from helper import asked, grade_by_cells, hold_refused, same
+from helper import asked, hold_refused, parted_by_places, same
 
 ANY = (("low", (), 99),)
 RULES = (("fine", ("rot",), 0), ("good", ("rot",), 1), ("low", (), 2))
@@ -23,32 +23,6 @@ def flipped(body):
 
 def with_edge(edge, narrow=1, short=1, rules=ANY):
     return (3, edge, narrow, short, 30, rules)
-
-
-def part_by_places(body, axis, places):
-    part = list(body)
-    part[axis] = places[0]
-    part[axis + 3] = len(places)
-    return tuple(part)
-
-
-def parted_by_places(board, axis, many, flaws, measures):
-    """What is told of a board parted along an axis, from its places in a row."""
-    body, way, _ = board
-    _, edge, narrow, short, _, rules = measures
-    places = list(range(body[axis], body[axis] + body[axis + 3]))
-    across = body[3] * body[4] * body[5] // len(places)
-    parts = []
-    slab = 0
-    for some in (places[:many], places[many + edge:]):
-        part = part_by_places(body, axis, some) if some else None
-        grade = None if part is None else grade_by_cells(part, flaws, rules)
-        if grade is None or part[3 if way == "x" else 4] < narrow or part[5] < short:
-            slab += len(some) * across
-            parts.append(None)
-        else:
-            parts.append((part, way, grade))
-    return (parts[0], parts[1], slab, len(places[many:many + edge]) * across)
 
 
 class Measures(unittest.TestCase):

@@ -143,6 +143,9 @@ class Weighings(WeighsCase):
             self.told(False, ask, worth, ())
             self.told(False, ask, worth, (((0, 0, 3, 2), worth),))
             self.told(True, ask, worth, (((0, 0, 3, 3), worth), ((1, 1, 2, 2), 0)))
+            # No cut tells of the other box, so its weight hangs on nothing, but it is from 0 on.
+            self.told(True, ask, worth, (((0, 0, 3, 3), worth), ((1, 1, 2, 2), 10 ** 60)))
+            self.told(False, ask, worth, (((0, 0, 3, 3), worth), ((1, 1, 2, 2), -1)))
 
 
 class OfAnything(WeighsCase):
@@ -168,6 +171,7 @@ class OfAnything(WeighsCase):
     def test_truths_for_numbers_and_lists_for_tuples(self):
         ask = ((((0, 1),), 2, ()), FREE, (("low", 1, 1, 1),), (1,))
         self.told(True, ask, 1, (((0, 0, 1, 1), 1),))
+        self.told(False, ask, True, (((0, 0, 1, 1), 1),))
         for thing in (
             (((0, 0, 1, 1), True),), (((False, 0, 1, 1), 1),), (((0, 0, True, 1), 1),), (((0, 0, 1, True), 1),),
             (([0, 0, 1, 1], 1),), ([(0, 0, 1, 1), 1],), [((0, 0, 1, 1), 1)], {(0, 0, 1, 1): 1},
